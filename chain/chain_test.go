@@ -1,4 +1,4 @@
-package kind_test
+package chain_test
 
 import (
 	"errors"
@@ -7,12 +7,27 @@ import (
 	"go/token"
 	"go/types"
 	"path/filepath"
+	"strconv"
 	"strings"
 	"testing"
 )
 
 // The form of what is kept from the start (DOC.md, "What stands when main begins") no call can tell; it is read from
-// the package's text.
+// the packages' texts. This folder has tests alone, for all packages of the chain.
+
+// link is a package of the chain that is built: how many variables its start makes.
+type link struct {
+	name string
+	made int
+}
+
+// links are the packages of the chain, each of which imports the one ahead of it.
+func links() []link {
+	return []link{
+		{"kind", 7}, // five numbers, Base, Width
+		{"conv", 1}, // Base
+	}
+}
 
 // written is a package as it is written.
 type written struct {
@@ -174,15 +189,39 @@ func (x written) reads(t *testing.T, name string, n ast.Node, seen map[types.Obj
 	})
 }
 
-func TestTheStartIsKeptInVariablesThatCallsMake(t *testing.T) {
-	x := readWritten(t, ".")
-	x.gather(t)
-	if len(x.kept) != 7 {
-		t.Errorf("%d variables are made at the start, not 7: five numbers, Base, Width", len(x.kept))
+// asks: whether the call that makes a variable asks another package's function, itself or through its own functions.
+func (x written) asks(pack string, name string, n ast.Node, seen map[types.Object]bool) bool {
+	found := false
+	ast.Inspect(n, func(n ast.Node) bool {
+		switch n := n.(type) {
+		case *ast.SelectorExpr:
+			p, ok := n.X.(*ast.Ident)
+			found = found || ok && p.Name == pack && n.Sel.Name == name
+		case *ast.Ident:
+			o := x.info.Uses[n]
+			if f := x.funcs[o]; f != nil && !seen[o] {
+				seen[o] = true
+				found = found || x.asks(pack, name, f, seen)
+			}
+		}
+		return true
+	})
+	return found
+}
+
+// asksAtTheStart: whether one of the calls that make the variables asks another package's function.
+func (x written) asksAtTheStart(pack string, name string) bool {
+	for _, call := range x.kept {
+		if x.asks(pack, name, call, map[types.Object]bool{}) {
+			return true
+		}
 	}
-	for o, call := range x.kept {
-		x.reads(t, o.Name(), call, map[types.Object]bool{})
-	}
+	return false
+}
+
+// changes looks for a change of what is kept, anywhere in the package.
+func (x written) changes(t *testing.T) {
+	t.Helper()
 	for _, f := range x.files {
 		ast.Inspect(f, func(n ast.Node) bool {
 			for _, e := range changed(n) {
@@ -192,5 +231,57 @@ func TestTheStartIsKeptInVariablesThatCallsMake(t *testing.T) {
 			}
 			return true
 		})
+	}
+}
+
+// imports: whether one of the package's files imports this one.
+func (x written) imports(path string) bool {
+	for _, f := range x.files {
+		for _, s := range f.Imports {
+			if s.Path.Value == strconv.Quote(path) {
+				return true
+			}
+		}
+	}
+	return false
+}
+
+func TestTheStartIsKeptInVariablesThatCallsMake(t *testing.T) {
+	for _, l := range links() {
+		t.Run(l.name, func(t *testing.T) {
+			x := readWritten(t, filepath.Join("..", l.name))
+			x.gather(t)
+			if len(x.kept) != l.made {
+				t.Errorf("%d variables are made at the start, not %d", len(x.kept), l.made)
+			}
+			for o, call := range x.kept {
+				x.reads(t, o.Name(), call, map[types.Object]bool{})
+			}
+			x.changes(t)
+		})
+	}
+}
+
+func TestEachPackageImportsTheOneAhead(t *testing.T) {
+	ahead := ""
+	for _, l := range links() {
+		if ahead != "" && !readWritten(t, filepath.Join("..", l.name)).imports("stratum/"+ahead) {
+			t.Errorf("%s doesn't import %s", l.name, ahead)
+		}
+		ahead = l.name
+	}
+}
+
+func TestBaseIsMadeOfWhatThePackageAheadHas(t *testing.T) {
+	ahead := ""
+	for _, l := range links() {
+		x := readWritten(t, filepath.Join("..", l.name))
+		x.gather(t)
+		for _, name := range []string{"Base", "Entries"} {
+			if ahead != "" && !x.asksAtTheStart(ahead, name) {
+				t.Errorf("no variable of %s is made out of %s.%s", l.name, ahead, name)
+			}
+		}
+		ahead = l.name
 	}
 }
