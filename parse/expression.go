@@ -1,6 +1,9 @@
 package parse
 
-import "stratum/api"
+import (
+	"stratum/api"
+	"stratum/grammar"
+)
 
 // expression is one that is being read: its nodes so far, and how many levels are open.
 // What reads a part of it puts that part's nodes and answers how deep the last of them is.
@@ -45,21 +48,21 @@ func (x *expression) factor() int {
 		return x.leaf(api.Node{Op: api.ExNumber, Num: t.Num})
 	case t.Kind == api.TokText:
 		return x.leaf(api.Node{Op: api.ExText, Text: t.Text})
-	case x.atWord(wordTrue):
+	case x.atWord(grammar.True):
 		return x.leaf(api.Node{Op: api.ExTrue})
-	case x.atWord(wordFalse):
+	case x.atWord(grammar.False):
 		return x.leaf(api.Node{Op: api.ExFalse})
 	case x.atMark("-"):
 		return x.negative()
 	case x.atMark("("):
 		return x.brackets()
-	case x.atWord(wordCat):
+	case x.atWord(grammar.Cat):
 		return x.cat()
-	case x.atWord(wordRep):
+	case x.atWord(grammar.Rep):
 		return x.call(api.ExRep, 2)
-	case x.atWord(wordLen):
+	case x.atWord(grammar.Len):
 		return x.call(api.ExLen, 1)
-	case x.atWord(wordHex):
+	case x.atWord(grammar.Hex):
 		return x.call(api.ExHex, 1)
 	default:
 		x.fault(t.At, api.ErrSyntax)

@@ -1,6 +1,9 @@
 package parse
 
-import "stratum/api"
+import (
+	"stratum/api"
+	"stratum/grammar"
+)
 
 // reader goes through a text's tokens from the front, and keeps the first fault.
 type reader struct {
@@ -59,7 +62,7 @@ func (r *reader) mark(mark string) {
 
 func (r *reader) name() string {
 	t := r.peek()
-	return r.want(t.Kind == api.TokName && !isWord(t.Text)).Text
+	return r.want(t.Kind == api.TokName && !grammar.IsWord(t.Text)).Text
 }
 
 func (r *reader) number() uint64 {
