@@ -4,6 +4,7 @@ import (
 	"stratum/api"
 	"stratum/grammar"
 	"stratum/lex"
+	"stratum/postorder"
 )
 
 // isTree: whether t is a tree, or would be one if none of its expressions were too deep.
@@ -45,6 +46,12 @@ func isStep(s api.StepDecl) bool {
 		return areNames(s.A) && areEmpty(s.B, s.C, s.Sep, s.Type)
 	}
 	return false
+}
+
+// isExpression: whether nodes are one, however deep it is.
+func isExpression(nodes []api.Node) bool {
+	_, whole := postorder.Subtrees(nodes)
+	return whole
 }
 
 func areNames(texts ...string) bool {

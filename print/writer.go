@@ -7,6 +7,7 @@ import (
 	"stratum/api"
 	"stratum/grammar"
 	"stratum/lex"
+	"stratum/postorder"
 )
 
 // writer puts a text together, and keeps whether it met something that no text has.
@@ -14,7 +15,7 @@ type writer struct {
 	out   strings.Builder
 	deep  bool // an expression was too deep
 	long  bool // there was no room for something: nothing is put behind it any more
-	nodes [api.ExHex + 1]func(subtree)
+	nodes [api.ExHex + 1]func(postorder.Subtree)
 	steps [api.StepDrop + 1]func(api.StepDecl)
 }
 
@@ -34,8 +35,8 @@ func newWriter() *writer {
 }
 
 // nodeWriters stand at the places of their Ops.
-func (w *writer) nodeWriters() [api.ExHex + 1]func(subtree) {
-	return [...]func(subtree){
+func (w *writer) nodeWriters() [api.ExHex + 1]func(postorder.Subtree) {
+	return [...]func(postorder.Subtree){
 		api.ExNumber: w.number,
 		api.ExText:   w.quoted,
 		api.ExTrue:   wrapping{w, grammar.True, "", ""}.write,
@@ -155,29 +156,30 @@ func (w *writer) drop(s api.StepDecl) {
 // expression is for nodes that are one. One that is too deep isn't gone into, so that the writers call one another no
 // deeper than the limit.
 func (w *writer) expression(nodes []api.Node) {
-	all, _ := whole(nodes)
-	if all.depth() > api.MaxDepth {
+	all, _ := postorder.Subtrees(nodes)
+	root := all[len(all)-1]
+	if root.Depth() > api.MaxDepth {
 		w.deep = true
 		return
 	}
-	w.subtree(all)
+	w.subtree(root)
 }
 
-func (w *writer) subtree(s subtree) {
-	w.nodes[s.node().Op](s)
+func (w *writer) subtree(s postorder.Subtree) {
+	w.nodes[s.Node().Op](s)
 }
 
-func (w *writer) number(s subtree) {
-	w.put(strconv.FormatUint(s.node().Num, 10))
+func (w *writer) number(s postorder.Subtree) {
+	w.put(strconv.FormatUint(s.Node().Num, 10))
 }
 
-func (w *writer) quoted(s subtree) {
-	w.put(w.quote(s.node().Text))
+func (w *writer) quoted(s postorder.Subtree) {
+	w.put(w.quote(s.Node().Text))
 }
 
-func (p wrapping) write(s subtree) {
+func (p wrapping) write(s postorder.Subtree) {
 	p.w.put(p.ahead)
-	for i, kid := range s.kids() {
+	for i, kid := range s.Kids() {
 		if i > 0 {
 			p.w.put(p.between)
 		}

@@ -1,10 +1,17 @@
-package print
+// Package postorder has the subtrees of an expression's nodes, for the layers that print expressions and reckon them.
+package postorder
 
 import (
 	"slices"
 
 	"stratum/api"
 )
+
+// Subtree is a node with all that stands below it.
+type Subtree struct {
+	of   *expression
+	root int
+}
 
 // expression is nodes in postorder, with what is known of each one's subtree.
 type expression struct {
@@ -13,31 +20,19 @@ type expression struct {
 	depth []int
 }
 
-// subtree is a node with all that stands below it.
-type subtree struct {
-	of   *expression
-	root int
-}
-
-func isExpression(nodes []api.Node) bool {
-	_, ok := whole(nodes)
-	return ok
-}
-
-// whole is the subtree that all nodes are together, however deep it is, and whether they are one.
-func whole(nodes []api.Node) (subtree, bool) {
+// Subtrees: those of the nodes from the front on, up to a node that can't stand in its place; and whether the nodes
+// are an expression, however deep: each can stand in its place, and the last one's subtree is all of them.
+func Subtrees(nodes []api.Node) ([]Subtree, bool) {
 	x := &expression{nodes: nodes, first: make([]int, len(nodes)), depth: make([]int, len(nodes))}
+	var all []Subtree
 	for root, n := range nodes {
 		kids, ok := kidsOf(n)
 		if !ok || !x.join(root, kids) {
-			return subtree{}, false
+			return all, false
 		}
+		all = append(all, Subtree{x, root})
 	}
-	last := len(nodes) - 1
-	if last < 0 || x.first[last] != 0 {
-		return subtree{}, false
-	}
-	return subtree{x, last}, true
+	return all, len(all) > 0 && x.first[len(all)-1] == 0
 }
 
 // join makes the subtree of a node out of the last so many ahead of it, and answers whether there are so many.
@@ -80,20 +75,28 @@ func kidsOf(n api.Node) (int, bool) {
 	return kids, n == used
 }
 
-func (s subtree) node() api.Node {
+// Place: where the subtree's node stands among the nodes.
+func (s Subtree) Place() int {
+	return s.root
+}
+
+// Node: the subtree's root.
+func (s Subtree) Node() api.Node {
 	return s.of.nodes[s.root]
 }
 
-func (s subtree) depth() int {
+// Depth: 1 without kids, else one more than the greatest of the kids.
+func (s Subtree) Depth() int {
 	return s.of.depth[s.root]
 }
 
-// kids are found from the last one on, which stands right ahead of its parent; the others each right ahead of the next.
-func (s subtree) kids() []subtree {
-	var kids []subtree
+// Kids: the subtrees of the node's kids, in their order.
+func (s Subtree) Kids() []Subtree {
+	var kids []Subtree
 	first := s.of.first
+	// They are found from the last one on, which stands right ahead of its parent; the others each right ahead of the next.
 	for at := s.root; at > first[s.root]; at = first[at-1] {
-		kids = append(kids, subtree{s.of, at - 1})
+		kids = append(kids, Subtree{s.of, at - 1})
 	}
 	slices.Reverse(kids)
 	return kids
