@@ -1,29 +1,35 @@
-package print
+// Package tree tells what a schema's tree is, for the layers that print trees and check them.
+package tree
 
 import (
 	"stratum/api"
 	"stratum/grammar"
 	"stratum/lex"
-	"stratum/postorder"
 )
 
-// isTree: whether t is a tree, or would be one if none of its expressions were too deep.
-func isTree(t api.Schema) bool {
+// Is: whether t is a tree. What an expression is the caller says, since the layers don't look at it alike: to some of
+// them one that is too deep is an expression still.
+func Is(t api.Schema, isExpression func([]api.Node) bool) bool {
 	for _, e := range t.Events {
-		if !isEvent(e) {
+		if !isEvent(e, isExpression) {
 			return false
 		}
 	}
 	return true
 }
 
-func isEvent(e api.EventDecl) bool {
-	if !areNames(e.Name) || len(e.Versions) == 0 {
+// IsName: whether a text can stand as a name in a tree.
+func IsName(s string) bool {
+	return lex.Name(s) && !grammar.IsWord(s)
+}
+
+func isEvent(e api.EventDecl, isExpression func([]api.Node) bool) bool {
+	if !IsName(e.Name) || len(e.Versions) == 0 {
 		return false
 	}
 	for _, v := range e.Versions {
 		for _, s := range v.Steps {
-			if !isStep(s) {
+			if !isStep(s) || len(s.Value) > 0 && !isExpression(s.Value) {
 				return false
 			}
 		}
@@ -31,8 +37,9 @@ func isEvent(e api.EventDecl) bool {
 	return true
 }
 
+// isStep: whether s has what its Kind has in the grammar and nothing else, whatever the nodes of its Value are.
 func isStep(s api.StepDecl) bool {
-	if len(s.Value) > 0 && (s.Kind != api.StepAdd || !isExpression(s.Value)) {
+	if len(s.Value) > 0 && s.Kind != api.StepAdd {
 		return false
 	}
 	switch s.Kind {
@@ -48,15 +55,9 @@ func isStep(s api.StepDecl) bool {
 	return false
 }
 
-// isExpression: whether nodes are one, however deep it is.
-func isExpression(nodes []api.Node) bool {
-	_, whole := postorder.Subtrees(nodes)
-	return whole
-}
-
 func areNames(texts ...string) bool {
 	for _, s := range texts {
-		if !lex.Name(s) || grammar.IsWord(s) {
+		if !IsName(s) {
 			return false
 		}
 	}
