@@ -26,6 +26,7 @@ func links() []link {
 	return []link{
 		{"kind", 7}, // five numbers, Base, Width
 		{"conv", 1}, // Base
+		{"step", 1}, // Base
 	}
 }
 
